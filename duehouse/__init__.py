@@ -1,0 +1,1 @@
+"""Duehouse: dues under amended rules, told late, at several offices."""

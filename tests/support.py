@@ -1,0 +1,54 @@
+"""What several tests need: refusals, all short lives, and made-up rules."""
+
+import random
+import unittest
+from itertools import product
+
+from duehouse.errors import DueError
+from duehouse.rules import Rule
+
+
+class Case(unittest.TestCase):
+    """A test case that can ask for a refusal of just one kind, with its fields."""
+
+    def refused(self, error, fields, call, *told, **more):
+        """The call raises just this error, whose fields are the very things that are told here."""
+        with self.assertRaises(DueError) as caught:
+            call(*told, **more)
+        self.assertIs(caught.exception.__class__, error)
+        self.assertEqual(set(vars(caught.exception)), set(fields))
+        for name, value in fields.items():
+            held = getattr(caught.exception, name)
+            self.assertIs(held.__class__, value.__class__)
+            self.assertEqual(held, value)
+        return caught.exception
+
+
+def put(table, key, value):
+    """`table[key] = value`, as a call."""
+    table[key] = value
+
+
+def got(table, key):
+    """`table[key]`, as a call."""
+    return table[key]
+
+
+def all_lives(signs, most):
+    """All lives of at most so many days, the shorter ones first."""
+    for days in range(most + 1):
+        for life in product(signs, repeat=days):
+            yield life
+
+
+def made_rule(rnd, signs, states, dues=(0, 1)):
+    """A rule with this many states, made up."""
+    rows = []
+    for _ in range(states):
+        rows.append(tuple((rnd.choice(dues), rnd.randrange(states)) for _ in signs))
+    return Rule(signs, tuple(rows))
+
+
+def seeded(seed):
+    """Random numbers that are the same in each run."""
+    return random.Random(seed)
