@@ -1,9 +1,10 @@
-"""What several tests need: refusals, all short lives, and made-up rules."""
+"""What several tests need: refusals, all short lives, and made-up rules and books."""
 
 import random
 import unittest
 from itertools import product
 
+from duehouse.books import Book
 from duehouse.errors import DueError
 from duehouse.rules import Rule
 
@@ -47,6 +48,18 @@ def made_rule(rnd, signs, states, dues=(0, 1)):
     for _ in range(states):
         rows.append(tuple((rnd.choice(dues), rnd.randrange(states)) for _ in signs))
     return Rule(signs, tuple(rows))
+
+
+def made_book(rnd, signs, rules, states, dues=(0, 1), kept=True):
+    """A book with rules a, b, .. and made-up tables."""
+    named = [("abc"[k], made_rule(rnd, signs, rnd.randint(1, states), dues)) for k in range(rules)]
+    book = Book(named)
+    for old, rule in named:
+        for new, other in named:
+            if old != new:
+                choices = [*range(len(other)), *([None] if kept else [])]
+                book[old, new] = tuple(rnd.choice(choices) for _ in rule)
+    return book
 
 
 def seeded(seed):

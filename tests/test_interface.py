@@ -11,7 +11,25 @@ FUNCTIONS = {
         "spells(track)",
         "track_of(spells)",
     ],
+    "comparing": [
+        "parting(a, b)",
+        "above(a, b)",
+        "greatest_gap(a, b)",
+        "remembers(rule)",
+        "mixed_up(rule, days)",
+        "lives(signs, days)",
+    ],
+    "promises": ["promise_of(text)"],
+    "bridges": [
+        "three_dues(book, old, new, life, day)",
+        "keeps(book, old, new, promise, life, day)",
+        "right_entries(book, old, new, promise)",
+        "keeps_always(book, old, new, promise)",
+        "unbridged(book, old, new, promise)",
+    ],
 }
+
+PROMISE = ["__call__(self, old, new, due)", "__and__", "__le__", "__str__"]
 
 CLASSES = {
     ("sheets", "Sheet"): [
@@ -30,6 +48,22 @@ CLASSES = {
     ("kinds", "Spell"): ["__init__(self, signs, sign, most, amount)", "words(self)"],
     ("kinds", "Once"): ["__init__(self, signs, sign, amount)", "words(self)"],
     ("kinds", "After"): ["__init__(self, signs, sign, other, amount)", "words(self)"],
+    ("books", "Book"): [
+        "__init__(self, rules)", "__iter__", "rule_named(self, name)", "__getitem__", "__setitem__", "copy(self)",
+        "step(self, place, rule, sign)", "places(self, life, code)", "dues(self, life, code)",
+    ],
+    ("courses", "Course"): [
+        "__init__(self, book, offices, charges=None)", "book_copy(self)", "charge(self, office, sign)", "turns(self)",
+        "step(self, seat, rule, sign)", "seats(self, life, code)", "run(self, life, code)",
+        "own(self, office, life, code)", "coming(self)", "like(self, office, seat, other)",
+    ],
+    ("promises", "Promise"): PROMISE,
+    ("promises", "Fresh"): PROMISE,
+    ("promises", "NoLess"): PROMISE,
+    ("promises", "NoMore"): PROMISE,
+    ("promises", "Between"): PROMISE,
+    ("promises", "Better"): PROMISE,
+    ("promises", "Both"): ["__init__(self, first, second)", *PROMISE],
 }
 
 
@@ -56,6 +90,9 @@ class InterfaceTest(unittest.TestCase):
             self.assertEqual(found.__module__, f"duehouse.{module}")
             for told in methods:
                 self.check(f"{module}.{name}", vars(found).get(told.partition("(")[0]), told)
+
+    def test_lives_is_a_generator(self):
+        self.assertTrue(inspect.isgeneratorfunction(import_module("duehouse.comparing").lives))
 
 
 if __name__ == "__main__":
