@@ -72,7 +72,7 @@ def faults(folder):
             found.append(("L1", path.name, 0, "no .py file"))
     own = own_methods(files)
     for file in files:
-        for check in (text_faults, import_faults, top_faults, name_faults, node_faults, class_faults):
+        for check in CHECKS:
             for rule, line, text in check(file, files, own):
                 found.append((rule, file.path.name, line, text))
     found.extend(ring_faults(files))
@@ -192,7 +192,11 @@ def name_faults(file, files, own):
         if name in standard | BARRED_NAMES:
             yield "L15", file.defined[name].lineno, name
     known = imported | set(file.defined) | BUILTINS
+    setters = [part for node in ast.walk(file.tree) if isinstance(node, ast.FunctionDef) for part in node.decorator_list]
+    over = {part.value for part in setters if isinstance(part, ast.Attribute)}
     for node in ast.walk(file.tree):
+        if node in over:
+            continue
         if isinstance(node, ast.Name) and isinstance(node.ctx, ast.Load) and node.id not in known:
             up = node
             while up in file.parents and not isinstance(up, ast.FunctionDef):
@@ -296,21 +300,90 @@ def node_faults(file, files, own):
                 yield "L19", line, "raise"
 
 
+def is_setter(function):
+    """Whether this is the setter of the property above it."""
+    return any(isinstance(part, ast.Attribute) and part.attr == "setter" for part in function.decorator_list)
+
+
+def decorator_faults(file, files, own):
+    """Decorators stand over methods only, one over each: those of properties, static and class methods."""
+    for node in ast.walk(file.tree):
+        if isinstance(node, ast.ClassDef) and node.decorator_list:
+            yield "L5", node.lineno, "decorator"
+        if not isinstance(node, ast.FunctionDef) or not node.decorator_list:
+            continue
+        part = node.decorator_list[0]
+        usual = isinstance(part, ast.Name) and part.id in ("property", "staticmethod", "classmethod")
+        above = {other.name for other in file.parents[node].body if isinstance(other, ast.FunctionDef)}
+        setter = is_setter(node) and isinstance(part.value, ast.Name) and part.value.id == node.name in above
+        in_class = isinstance(file.parents[node], ast.ClassDef)
+        if len(node.decorator_list) > 1 or not in_class or not (usual or setter):
+            yield "L4", node.lineno, "decorator"
+
+
+def is_simple(node):
+    """What `__exit__` may assign: a local name, an attribute, a literal without a sign."""
+    while isinstance(node, ast.Attribute):
+        node = node.value
+    return isinstance(node, (ast.Name, ast.Constant))
+
+
+def exit_faults(file, files, own):
+    """The rows of `__exit__` assign simple things to attributes, and nothing else."""
+    for node in ast.walk(file.tree):
+        if isinstance(node, ast.FunctionDef) and node.name == "__exit__":
+            for row in node.body:
+                doc = isinstance(row, ast.Expr) and isinstance(row.value, ast.Constant)
+                fine = isinstance(row, ast.Assign) and len(row.targets) == 1 and is_simple(row.value)
+                if not doc and not isinstance(row, ast.Pass) and not (fine and isinstance(row.targets[0], ast.Attribute)):
+                    yield "L6", row.lineno, "row of __exit__"
+
+
+def generators_of(files):
+    """The names of all functions and methods with a yield."""
+    names = set()
+    for file in files:
+        for node in ast.walk(file.tree):
+            if isinstance(node, ast.FunctionDef):
+                if any(isinstance(part, (ast.Yield, ast.YieldFrom)) for part in ast.walk(node)):
+                    names.add(node.name)
+    return names
+
+
+def generator_faults(file, files, own):
+    """The call of a generator is iterated at once; its name is no other function's and no builtin method's."""
+    names = generators_of(files)
+    for name in names:
+        if sum(name in [part.name for part in ast.walk(other.tree) if isinstance(part, ast.FunctionDef)] for other in files) > 1:
+            yield "L23", 0, name
+        if name in METHODS:
+            yield "L23", 0, name
+    for node in ast.walk(file.tree):
+        if isinstance(node, ast.Call):
+            called = node.func.id if isinstance(node.func, ast.Name) else getattr(node.func, "attr", None)
+            if called in names:
+                parent = file.parents[node]
+                looped = isinstance(parent, (ast.For, ast.comprehension)) and parent.iter is node
+                if not looped and not isinstance(parent, ast.YieldFrom) and not is_call_of(parent, TAKERS):
+                    yield "L23", node.lineno, f"{called} is not iterated at once"
+
+
 def class_faults(file, files, own):
     """Methods and attributes of each class, with those of its bases and subclasses."""
     classes = {name: node for other in files for name, node in other.defined.items() if isinstance(node, ast.ClassDef)}
     for name, node in file.defined.items():
         if not isinstance(node, ast.ClassDef):
             continue
-        methods = [part.name for part in node.body if isinstance(part, ast.FunctionDef)]
+        methods = [part.name for part in node.body if isinstance(part, ast.FunctionDef) and not is_setter(part)]
         attributes = set()
         family = [name]
         for other in family:
             family.extend(base.id for base in classes[other].bases if base.id in classes and base.id not in family)
         for other in family:
             for part in ast.walk(classes[other]):
-                if isinstance(part, ast.Attribute) and isinstance(part.ctx, ast.Store) and part.value.id == "self":
-                    attributes.add(part.attr)
+                if isinstance(part, ast.Attribute) and isinstance(part.ctx, ast.Store):
+                    if isinstance(part.value, ast.Name) and part.value.id == "self":
+                        attributes.add(part.attr)
         for method in methods:
             if method.startswith("__") and method[2:-2] not in DUNDERS:
                 yield "L5", node.lineno, method
@@ -325,6 +398,11 @@ def class_faults(file, files, own):
         if "__getitem__" in methods and "__iter__" not in methods:
             yield "L5", node.lineno, "no __iter__"
 
+
+CHECKS = (
+    text_faults, import_faults, top_faults, name_faults, node_faults, decorator_faults, exit_faults, generator_faults,
+    class_faults,
+)
 
 if __name__ == "__main__":
     for fault in faults(Path(__file__).resolve().parent.parent / "duehouse"):

@@ -5,6 +5,7 @@ import unittest
 from itertools import product
 
 from duehouse.books import Book
+from duehouse.courses import Course
 from duehouse.errors import DueError
 from duehouse.rules import Rule
 
@@ -65,3 +66,32 @@ def made_book(rnd, signs, rules, states, dues=(0, 1), kept=True):
 def seeded(seed):
     """Random numbers that are the same in each run."""
     return random.Random(seed)
+
+
+def made_course(rnd, signs=3, rules=3, states=3, offices=3, dues=(0, 0, 1)):
+    """A course, made up, with at most so many of each."""
+    book = made_book(rnd, ("a", "b", "c")[: rnd.randint(1, signs)], rnd.randint(1, rules), states, dues)
+    names = ("x", "y", "z")[: rnd.randint(1, offices)]
+    charges = {}
+    for office in names:
+        for sign in book.signs:
+            if rnd.random() < 0.5:
+                charges[office, sign] = rnd.choice(names)
+    return Course(book, names, charges)
+
+
+def own_from(course, office, seat, turns):
+    """The own dues of an office on these turns from the seat on."""
+    dues = []
+    for rule, sign in turns:
+        due, behind = course.step(seat, rule, sign)
+        dues.append(due if seat[0] == office else 0)
+        seat = behind
+    return dues
+
+
+def seat_behind(course, seat, turns):
+    """The seat to which these turns lead from the seat."""
+    for rule, sign in turns:
+        _, seat = course.step(seat, rule, sign)
+    return seat

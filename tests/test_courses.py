@@ -7,7 +7,7 @@ from duehouse.books import Book
 from duehouse.courses import Course
 from duehouse.errors import BadName, BadNumber, Taken, Unknown
 from duehouse.kinds import Flat, Once, Upto
-from tests.support import Case, made_book, seeded
+from tests.support import Case, made_book, own_from, seeded
 
 AB = ("a", "b")
 
@@ -181,15 +181,6 @@ class ComingTest(Case):
                 self.assertIsInstance(seat, tuple)
 
 
-def own_dues_from(course, office, seat, turns):
-    dues = []
-    for rule, sign in turns:
-        due, behind = course.step(seat, rule, sign)
-        dues.append(due if seat[0] == office else 0)
-        seat = behind
-    return dues
-
-
 class LikeTest(Case):
     def test_examples(self):
         course = Course(two_rules(), ["x", "y", "z"], {("x", "a"): "y"})
@@ -222,7 +213,7 @@ class LikeTest(Case):
                 like = course.like(office, one, two)
                 met.add(like)
                 same = all(
-                    own_dues_from(course, office, one, track) == own_dues_from(course, office, two, track)
+                    own_from(course, office, one, track) == own_from(course, office, two, track)
                     for track in product(turns, repeat=most)
                 )
                 if like or same:

@@ -10,6 +10,15 @@ PACKAGE = Path(__file__).resolve().parent.parent / "duehouse"
 
 PLANTED = [
     ("L2", "import os"),
+    ("L4", "class One:\n    @property\n    @staticmethod\n    def two(self):\n        return 1"),
+    ("L4", "@staticmethod\ndef one():\n    return 1"),
+    ("L4", "class One:\n    @abs\n    def two(self):\n        return 1"),
+    ("L5", "@abs\nclass One:\n    pass"),
+    ("L6", "class One:\n    def __exit__(self, kind, value, trace):\n        self.x = self.y + self.z"),
+    ("L6", "class One:\n    def __exit__(self, kind, value, trace):\n        if self.x:\n            self.y = 1"),
+    ("L6", "class One:\n    def __exit__(self, kind, value, trace):\n        self.free()\n\n    def free(self):\n        pass"),
+    ("L23", "def one():\n    yield 1\n\n\ndef two():\n    return one()"),
+    ("L23", "class One:\n    def split(self):\n        yield 1"),
     ("L2", "from math import floor"),
     ("L2", "def one():\n    return 1\n\n\nfrom duehouse.other import two"),
     ("L16", "from duehouse.other import three"),
