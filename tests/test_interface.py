@@ -27,6 +27,33 @@ FUNCTIONS = {
         "keeps_always(book, old, new, promise)",
         "unbridged(book, old, new, promise)",
     ],
+    "healing": [
+        "wrong_states(book, old, new, promise)",
+        "healed(book, old, new, promise)",
+        "least_kept(book, old, new, promise)",
+        "many_tables(book, old, new, promise)",
+        "told_apart(book, old, new)",
+    ],
+    "purses": [
+        "set_marks(purse, *, unit, cap)",
+        "paid_while_held(purse, amounts)",
+        "loses(purse, steps)",
+        "least_loss(purse, amounts)",
+    ],
+    "clearing": ["cleared(balances)", "made(balances, transfers)"],
+    "terms": [
+        "matters(course, office, life, code, doubtful)",
+        "cost(course, office, life, code, doubtful, day)",
+    ],
+    "ways": ["deliveries(ways, office)"],
+    "spreads": [
+        "sign_spread(course, office)",
+        "rule_spread(course, office, most=None)",
+        "sign_difference(course, office, *, least=0, within=None, wait=0, foreign=False)",
+        "rule_difference(course, office, *, most=None, least=0, within=None)",
+        "endless(course, office, kind)",
+    ],
+    "likeness": ["likeness_of(book)", "course_likeness(course)", "unlike(book, likeness)"],
 }
 
 PROMISE = ["__call__(self, old, new, due)", "__and__", "__le__", "__str__"]
@@ -64,7 +91,38 @@ CLASSES = {
     ("promises", "Between"): PROMISE,
     ("promises", "Better"): PROMISE,
     ("promises", "Both"): ["__init__(self, first, second)", *PROMISE],
+    ("practices", "Practice"): [
+        "__init__(self, *, again=None, amends='back', heeds='all', stands='last', term=None, pays=None, asks=None)",
+        "__getitem__", "__setitem__", "__iter__", "weak(self)", "made_full(self, word)", "copy(self)", "__eq__",
+        "__le__", "__str__",
+    ],
+    ("files", "File"): [
+        "__init__(self, course, office, practice)", "pass_day(self)", "read(self, entry)", "appeal(self, day)",
+        "row(self, day)", "booked(self, day)", "total(self)", "entries(self)", "view(self, day)", "reckoned(self)",
+        "copy(self)",
+    ],
+    ("purses", "Purse"): [
+        "__init__(self, *, unit=1, rest='keep', cap=None, held='keep')", "book(self, amount)", "hold(self)",
+        "free(self)", "run(self)", "close(self)", "__bool__", "empty_copy(self)", "copy(self)", "next_runs(self)",
+    ],
+    ("purses", "Held"): ["__init__(self, purse)", "__enter__", "__exit__"],
+    ("ways", "Ways"): [
+        "__init__(self, offices, pairs=())", "__contains__", "__len__", "__iter__", "__eq__", "__le__", "__ior__",
+        "__isub__", "begin(self, writer, reader)", "stop(self, writer, reader)", "writes(self, office)",
+        "hears(self, office)", "lacking(self)", "copy(self)",
+    ],
+    ("likeness", "Likeness"): [
+        "__init__(self, signs, classes)", "__contains__", "__le__", "__and__", "__eq__", "__len__", "__iter__",
+    ],
 }
+
+# Static and class methods: their arguments without the class.
+OTHERS = {
+    ("practices", "Practice"): (classmethod, "from_text(text)"),
+    ("ways", "Ways"): (staticmethod, "all_of(offices)"),
+}
+
+GENERATORS = [("comparing", None, "lives"), ("purses", "Purse", "next_runs"), ("ways", None, "deliveries")]
 
 
 class InterfaceTest(unittest.TestCase):
@@ -91,8 +149,18 @@ class InterfaceTest(unittest.TestCase):
             for told in methods:
                 self.check(f"{module}.{name}", vars(found).get(told.partition("(")[0]), told)
 
-    def test_lives_is_a_generator(self):
-        self.assertTrue(inspect.isgeneratorfunction(import_module("duehouse.comparing").lives))
+    def test_static_and_class_methods(self):
+        for (module, name), (kind, told) in OTHERS.items():
+            found = vars(import_module(f"duehouse.{module}"))[name]
+            method = told.partition("(")[0]
+            self.assertIsInstance(vars(found)[method], kind)
+            self.assertEqual(f"{method}{inspect.signature(getattr(found, method))}", told)
+
+    def test_generators(self):
+        for module, name, told in GENERATORS:
+            held = import_module(f"duehouse.{module}")
+            found = getattr(held if name is None else getattr(held, name), told)
+            self.assertTrue(inspect.isgeneratorfunction(found))
 
 
 if __name__ == "__main__":
