@@ -54,4 +54,4 @@ def rule_changes(watch):
         for other in range(watch.many_rules)
         for rule in range(other)
     ]
-    return changes_of(watch, range(len(watch.rows)), turns)
+    return changes_of(watch, list(range(len(watch.rows))), turns)

@@ -37,6 +37,7 @@ BARRED_NAMES = set(
 BUILTIN_ATTRIBUTES = {name for kind in (str, int, list, dict, set, bytes) for name in dir(kind)}
 FREE_METHOD_NAMES = METHODS | {"add", "discard"}
 AT_ONCE = {"zip", "enumerate", "reversed"}
+VIEWS = {"items", "keys", "values"}
 TAKERS = {"list", "tuple", "dict", "sorted", "sum", "any", "all", "enumerate", "zip", "min", "max"}
 STATEMENTS = (
     ast.Assign, ast.AugAssign, ast.If, ast.While, ast.For, ast.Return, ast.Break, ast.Continue, ast.Pass, ast.Raise,
@@ -240,15 +241,57 @@ def call_faults(file, node, own):
         fine = sortable(node.args[0]) if len(node.args) == 1 else any(plainly_number_or_string(a) for a in node.args)
         if not fine:
             yield "L5", node.lineno, "sorted, min or max of what may be objects"
-    if is_call_of(node, AT_ONCE) or (isinstance(node.func, ast.Attribute) and node.func.attr in ("items", "keys", "values")):
-        parent = file.parents[node]
-        looped = isinstance(parent, (ast.For, ast.comprehension)) and parent.iter is node
-        if not looped and not is_call_of(parent, TAKERS):
+    if is_call_of(node, AT_ONCE) or is_view(node):
+        if not is_iterated(file, node):
             yield "L23", node.lineno, "not iterated at once"
     if is_call_of(node, {"set", "frozenset", "map", "chr", "print", "property"}):
         yield "L24", node.lineno, node.func.id
     if is_call_of(node, {"reversed"}) and not is_call_of(node.args[0], {"list", "tuple", "sorted", "range"}):
         yield "L5", node.lineno, "reversed"
+
+
+def is_view(node):
+    return isinstance(node, ast.Call) and isinstance(node.func, ast.Attribute) and node.func.attr in VIEWS
+
+
+def is_iterated(file, node):
+    """Whether this is iterated on the spot: in a for, or as the first argument of list and its like."""
+    parent = file.parents[node]
+    if isinstance(parent, (ast.For, ast.comprehension)):
+        return parent.iter is node
+    return is_call_of(parent, TAKERS) and parent.args[:1] == [node]
+
+
+def is_used_as_range(file, node):
+    """Whether this, a range or a name that keeps one, is iterated on the spot, measured, asked or indexed."""
+    parent = file.parents[node]
+    if isinstance(parent, ast.Compare):
+        return node in parent.comparators and all(isinstance(op, (ast.In, ast.NotIn)) for op in parent.ops)
+    if isinstance(parent, ast.Subscript):
+        return parent.value is node
+    return is_iterated(file, node) or is_call_of(parent, {"len", "reversed"})
+
+
+def range_faults(file, files, own):
+    """A range is iterated on the spot, or kept by a name that only this is done with: it is not passed on."""
+    for function in ast.walk(file.tree):
+        if not isinstance(function, ast.FunctionDef):
+            continue
+        kept = set()
+        for node in ast.walk(function):
+            if is_call_of(node, {"range"}) and not is_used_as_range(file, node):
+                parent = file.parents[node]
+                if isinstance(parent, ast.Assign) and isinstance(parent.targets[0], ast.Name):
+                    kept.add(parent.targets[0].id)
+                else:
+                    yield "L23", node.lineno, "range that is passed on"
+        for name in kept:
+            if bound_names(function).count(name) > 1:
+                yield "L23", function.lineno, f"{name} keeps a range and is assigned again"
+        for node in ast.walk(function):
+            if isinstance(node, ast.Name) and isinstance(node.ctx, ast.Load) and node.id in kept:
+                if not is_used_as_range(file, node):
+                    yield "L23", node.lineno, f"{node.id}, a range that is passed on"
 
 
 def node_faults(file, files, own):
@@ -400,8 +443,8 @@ def class_faults(file, files, own):
 
 
 CHECKS = (
-    text_faults, import_faults, top_faults, name_faults, node_faults, decorator_faults, exit_faults, generator_faults,
-    class_faults,
+    text_faults, import_faults, top_faults, name_faults, node_faults, range_faults, decorator_faults, exit_faults,
+    generator_faults, class_faults,
 )
 
 if __name__ == "__main__":

@@ -50,6 +50,22 @@ PLANTED = [
     ("L20", "def one(x, y):\n    return x is y"),
     ("L21", "def one(x: int):\n    return x"),
     ("L23", "def one(xs):\n    return zip(xs, xs)"),
+    ("L23", "def one(xs):\n    return two(range(3))\n\n\ndef two(xs):\n    return xs"),
+    ("L23", "def one(xs):\n    return two(xs=range(3))\n\n\ndef two(xs):\n    return xs"),
+    ("L23", "def one(xs):\n    return two(*range(3))\n\n\ndef two(*xs):\n    return xs"),
+    ("L23", "def one(xs):\n    rows = range(3)\n    return two(rows)\n\n\ndef two(xs):\n    return xs"),
+    ("L23", "def one(xs):\n    return two(zip(xs, xs))\n\n\ndef two(xs):\n    return xs"),
+    ("L23", "def one(xs):\n    return two(xs, enumerate(xs))\n\n\ndef two(xs, ys):\n    return ys"),
+    ("L23", "def one(xs):\n    return two(reversed(list(xs)))\n\n\ndef two(xs):\n    return xs"),
+    ("L23", "def one(xs):\n    return two(xs.items())\n\n\ndef two(xs):\n    return xs"),
+    ("L23", "def one(xs):\n    return two(xs.keys())\n\n\ndef two(xs):\n    return xs"),
+    ("L23", "def one(xs):\n    return two(xs=xs.values())\n\n\ndef two(xs):\n    return xs"),
+    ("L23", "class One:\n    def two(self, xs):\n        return self.two(range(3))"),
+    ("L23", "class One:\n    def __init__(self, xs):\n        self.xs = range(3)"),
+    ("L23", "def one(xs):\n    return range(3)"),
+    ("L23", "def one(xs):\n    xs.extend(range(3))"),
+    ("L23", "def one(xs):\n    return sum([1], range(3))"),
+    ("L23", "def one(xs):\n    rows = range(3)\n    rows = range(4)\n    return len(rows)"),
     ("L26", "class One:\n    def union(self):\n        return 1"),
     ("L27", "X = '5%'"),
     ("L27", "def one(n):\n    return 2 ** n"),
@@ -71,6 +87,24 @@ class FormTest(unittest.TestCase):
                 (package / "other.py").write_text("def two():\n    return 2\n", encoding="utf-8")
                 (package / "one.py").write_text(text + "\n", encoding="utf-8")
                 self.assertIn(rule, [fault[0] for fault in faults(package)])
+
+    def test_ranges_on_the_spot_are_let(self):
+        text = '''def one(xs):
+    rows = range(len(xs))
+    pairs = [(row, at) for row in rows for at in range(3)]
+    for row in reversed(range(3)):
+        pairs.append((row, rows[0]))
+    return two(list(range(len(rows)))), two(list(rows)), 3 in rows, len(range(4)), pairs
+
+
+def two(xs):
+    return xs
+'''
+        with tempfile.TemporaryDirectory() as folder:
+            package = Path(folder) / "duehouse"
+            package.mkdir()
+            (package / "one.py").write_text(text, encoding="utf-8")
+            self.assertEqual([fault for fault in faults(package) if fault[0] == "L23"], [])
 
     def test_other_files_and_rings_are_seen(self):
         with tempfile.TemporaryDirectory() as folder:
