@@ -132,6 +132,5 @@ class Practice:
     def copy(self):
         """A new practice with the same marks."""
         practice = Practice()
-        for word in WORDS:
-            practice[word] = self._marks[word]
+        practice._marks = dict(self._marks)
         return practice

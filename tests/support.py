@@ -6,8 +6,12 @@ from itertools import product
 
 from duehouse.books import Book
 from duehouse.courses import Course
-from duehouse.errors import DueError
+from duehouse.errors import DueError, TooLate
+from duehouse.houses import House
+from duehouse.practices import Practice
+from duehouse.purses import Purse
 from duehouse.rules import Rule
+from duehouse.sessions import Session
 
 
 class Case(unittest.TestCase):
@@ -95,3 +99,75 @@ def seat_behind(course, seat, turns):
     for rule, sign in turns:
         _, seat = course.step(seat, rule, sign)
     return seat
+
+
+WEAK = {
+    "again": [1, 2, 3], "amends": ["ahead"], "heeds": ["own"], "stands": ["come"], "term": [0, 1, 2, 3],
+    "pays": [0, 1, 2, 3], "asks": [0, 1, 2, 3],
+}
+
+
+def made_practice(rnd):
+    """A practice, made up, mostly with a single weak mark."""
+    words = rnd.sample(list(WEAK), rnd.choice([0, 1, 1, 1, 2, 3, 7]))
+    return Practice(**{word: rnd.choice(WEAK[word]) for word in words})
+
+
+def made_purse(rnd):
+    """A purse, made up."""
+    keeping = rnd.random() < 0.5
+    return Purse(
+        unit=rnd.randint(1, 5), cap=rnd.choice([None, 1, 3, 99]), rest="keep" if keeping else rnd.choice(["keep", "drop"]),
+        held="keep" if keeping else rnd.choice(["keep", "drop"]),
+    )
+
+
+def all_pairs(offices):
+    """All pairs of different offices."""
+    return [(writer, reader) for writer in offices for reader in offices if writer != reader]
+
+
+def made_house(rnd, course, full=False):
+    """A house with this course, made up."""
+    return House(
+        course,
+        practices={} if full else {office: made_practice(rnd) for office in course.offices},
+        purses={office: made_purse(rnd) for office in course.offices},
+        ways=None if rnd.random() < 0.3 else [way for way in all_pairs(course.offices) if rnd.random() < 0.5],
+        late=rnd.choice([None, 0, 1, 2, 3]),
+        reach=rnd.choice([None, 0, 1, 2, 3]),
+    )
+
+
+def made_event(rnd, session, days, tellers):
+    """An event that the session may refuse, for being too late, and that tells of so many days."""
+    course, told = session.house.course, len(list(session.truth()))
+    words = ["tell", "tell", "amend", "appeal", "day"] + ["void"] * (told > 0) + ["read"] * 3 * (session.letters() != [])
+    word, office, day = rnd.choice(words), rnd.choice(tellers), rnd.randrange(days)
+    return {
+        "tell": ("tell", office, day, rnd.choice(course.signs)),
+        "amend": ("amend", office, day, rnd.choice(course.rules)),
+        "void": ("void", office, rnd.randint(1, max(1, told))),
+        "read": ("read", rnd.randrange(max(1, len(session.letters())))),
+        "appeal": ("appeal", office, day),
+        "day": ("day",),
+    }[word]
+
+
+def made_history(rnd, house, days, many, tellers=None):
+    """A history of so many days, made up, with about so many other events, told at these offices alone."""
+    session, events = Session(house), []
+    tellers = house.course.offices if tellers is None else tellers
+    while session.days < days or many > 0:
+        event = made_event(rnd, session, days, tellers)
+        if event == ("day",) and session.days == days:
+            continue
+        if many <= 0:
+            event = ("day",)
+        try:
+            session.do(event)
+            events.append(event)
+        except TooLate:
+            pass
+        many -= event != ("day",)
+    return events

@@ -9,7 +9,8 @@ from duehouse.files import File
 from duehouse.kinds import Flat, Once, Upto, Waiting
 from duehouse.practices import Practice
 from duehouse.sheets import Sheet
-from tests.support import Case, made_course, seeded
+from tests.bywords import ByWords
+from tests.support import Case, made_course, made_practice, seeded
 
 AB = ("a", "b")
 
@@ -41,91 +42,6 @@ def told_by(file):
         file.office, file.days, file.now, [file.row(day) for day in days], [file.booked(day) for day in days],
         file.total(), file.entries(), file.reckoned(), [file.view(day) for day in range(60)],
     )
-
-
-class ByWords:
-    """A file as points 18 to 20 tell it, each question answered from the start."""
-
-    def __init__(self, course, office, practice):
-        self.course, self.office, self.practice = course, office, practice
-        self.read_in_order, self.rows, self.paid, self.appealed = [], [], [], set()
-        self.now, self.last = course.start, ()
-
-    def stands(self, number):
-        voids = [entry[0] for entry in self.read_in_order if entry[1] == "void" and entry[2] == number]
-        return not any(self.stands(void) for void in voids)
-
-    def rank(self, entry):
-        return self.read_in_order.index(entry) if self.practice["stands"] == "come" else entry[0]
-
-    def view(self, day):
-        told = [entry for entry in self.read_in_order if self.stands(entry[0])]
-        signs = [entry for entry in told if entry[1] == "sign" and entry[2] == day]
-        rules = [entry for entry in told if entry[1] == "rule" and entry[2] <= day]
-        latest = [entry for entry in rules if entry[2] == max(rule[2] for rule in rules)]
-        sign = max(signs, key=self.rank)[3] if signs else self.course.signs[0]
-        rule = max(latest, key=self.rank)[3] if latest else self.course.rules[0]
-        return sign, rule
-
-    def reckon(self, seat, rule, sign):
-        due, behind = self.course.step(seat, rule, sign)
-        return (sign, rule, seat, due if seat[0] == self.office else 0), behind
-
-    def pass_day(self):
-        sign, rule = self.view(len(self.rows))
-        row, self.now = self.reckon(self.now, rule, sign)
-        self.rows.append(row)
-        self.paid.append(row[3])
-        return row[3]
-
-    def causes(self, before, behind):
-        found = set()
-        for day, row in enumerate(self.rows):
-            back = len(self.rows) - day
-            term = self.practice["term"]
-            near = term is None or back <= term or day in self.appealed
-            if before[day][0] != behind[day][0] and near:
-                if self.practice["heeds"] == "all" or row[2][0] == self.office:
-                    found.add(day)
-            if before[day][1] != behind[day][1] and self.practice["amends"] == "back":
-                found.add(day)
-        return found
-
-    def read(self, entry):
-        self.last = ()
-        if entry in self.read_in_order:
-            return []
-        before = [self.view(day) for day in range(len(self.rows))]
-        self.read_in_order.append(entry)
-        causes = self.causes(before, [self.view(day) for day in range(len(self.rows))])
-        again, behind, pairs, old = self.practice["again"], {}, [], list(self.rows)
-        for day in range(len(old)):
-            within = again is None or any(cause <= day < cause + again for cause in causes)
-            goes_on = day - 1 in behind and behind[day - 1] != old[day][2]
-            if day not in causes and not (goes_on and within):
-                continue
-            sign, rule = self.view(day)
-            if self.practice["amends"] == "ahead":
-                rule = old[day][1]
-            self.rows[day], behind[day] = self.reckon(behind.get(day - 1, old[day][2]), rule, sign)
-            pairs.extend(self.book(day))
-        self.now = behind.get(len(old) - 1, self.now)
-        self.last = tuple(sorted(behind))
-        return pairs
-
-    def book(self, day):
-        difference, back = self.rows[day][3] - self.paid[day], len(self.rows) - day
-        mark = self.practice["pays" if difference > 0 else "asks"]
-        if difference == 0 or (mark is not None and back > mark):
-            return []
-        self.paid[day] += difference
-        return [(day, difference)]
-
-    def appeal(self, day):
-        if self.practice["term"] is not None and len(self.rows) - day > self.practice["term"]:
-            return False
-        self.appealed.add(day)
-        return True
 
 
 class OrdinaryTest(Case):
@@ -498,15 +414,6 @@ class CopyTest(Case):
         self.assertIsInstance(file.row(0), tuple)
         self.assertIsInstance(file.view(0), tuple)
         self.assertIsInstance(file.reckoned(), tuple)
-
-
-def made_practice(rnd):
-    marks = {
-        "again": [1, 2, 3], "amends": ["ahead"], "heeds": ["own"], "stands": ["come"], "term": [0, 1, 2, 3],
-        "pays": [0, 1, 2, 3], "asks": [0, 1, 2, 3],
-    }
-    words = rnd.sample(list(marks), rnd.choice([0, 1, 1, 1, 2, 3, 7]))
-    return Practice(**{word: rnd.choice(marks[word]) for word in words})
 
 
 def made_entry(rnd, course, numbers, days):

@@ -54,6 +54,13 @@ FUNCTIONS = {
         "endless(course, office, kind)",
     ],
     "likeness": ["likeness_of(book)", "course_likeness(course)", "unlike(book, likeness)"],
+    "sessions": ["tried(session, events)", "ends_wrong(house, events)"],
+    "harms": [
+        "sign_age(house, office)", "rule_age(house, office)", "marks_of(house)", "is_harmful(house, mark)",
+    ],
+    "judging": [
+        "harm_of(house, mark)", "judge(house)", "assure(house)", "bare(house, mark)", "blamed(house, events)",
+    ],
 }
 
 PROMISE = ["__call__(self, old, new, due)", "__and__", "__le__", "__str__"]
@@ -114,6 +121,18 @@ CLASSES = {
     ("likeness", "Likeness"): [
         "__init__(self, signs, classes)", "__contains__", "__le__", "__and__", "__eq__", "__len__", "__iter__",
     ],
+    ("houses", "House"): [
+        "__init__(self, course, *, practices=None, purses=None, ways=None, late=None, reach=None)",
+        "practice(self, office)", "purse(self, office)", "ways(self)", "with_mark(self, office, word, value)",
+        "with_way(self, writer, reader)", "with_bounds(self, late, reach)",
+    ],
+    ("sessions", "Session"): [
+        "__init__(self, house)", "do(self, event)", "settle(self)", "truth(self)", "letters(self)",
+        "file(self, office)", "purse(self, office)", "wrong(self)", "copy(self)",
+    ],
+    ("sessions", "Trying"): ["__init__(self, session)", "__enter__", "__exit__"],
+    ("judging", "Harm"): [],
+    ("judging", "Verdict"): ["__bool__", "__iter__"],
 }
 
 # Static and class methods: their arguments without the class.
