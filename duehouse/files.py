@@ -18,6 +18,12 @@ def check_entry(course, entry):
         check_rule(course.rules, entry[3])
 
 
+def is_booked(practice, difference, back):
+    """Whether the practice lets this difference be booked for a day that is so many days back."""
+    bound = practice["pays"] if difference > 0 else practice["asks"]
+    return bound is None or back <= bound
+
+
 def by_number(entries):
     """The entries of a dict from their numbers, ascending."""
     return [entries[number] for number in sorted([int(number) for number in entries])]
@@ -106,17 +112,12 @@ class File:
             self.now = behind
         return reckoned
 
-    def _is_booked(self, day, difference):
-        """Whether the practice lets this difference be booked for the day."""
-        bound = self._practice["pays"] if difference > 0 else self._practice["asks"]
-        return bound is None or self._days_back(day) <= bound
-
     def _book_differences(self, days):
         """Book what these days lack or have too much; the pairs (day, difference) booked."""
         pairs = []
         for day in days:
             difference = self._rows[day][3] - self._booked[day]
-            if difference != 0 and self._is_booked(day, difference):
+            if difference != 0 and is_booked(self._practice, difference, self._days_back(day)):
                 self._booked[day] = self._booked[day] + difference
                 pairs.append((day, difference))
         return pairs

@@ -63,28 +63,28 @@ class Outlook:
         self._rules = {}
         self._foreign = {}
 
-    def sign(self, office):
+    def of_signs(self, office):
         """The spread for sign changes."""
         if office not in self._signs:
             self._signs[office] = sign_spread(self._course, office)
         return self._signs[office]
 
-    def rule(self, office):
+    def of_rules(self, office):
         """The spread for rule changes."""
         if office not in self._rules:
             self._rules[office] = rule_spread(self._course, office)
         return self._rules[office]
 
-    def foreign(self, office):
+    def sees_foreign(self, office):
         """Whether the office sees a sign change of a day that is not in its charge."""
         if office not in self._foreign:
             found = sign_difference(self._course, office, foreign=True)
             self._foreign[office] = found is not None
         return self._foreign[office]
 
-    def any_change(self, office):
+    def sees_any(self, office):
         """Whether the office sees any change."""
-        return self.sign(office) is not None or self.rule(office) is not None
+        return self.of_signs(office) is not None or self.of_rules(office) is not None
 
 
 def is_cut_short(spread, age, days):
@@ -103,20 +103,20 @@ def is_harmful_by(outlook, house, mark):
     age = sign_age(house, office)
     amended_age = rule_age(house, office)
     if word == "again":
-        cut = is_cut_short(outlook.sign(office), age, value)
-        return cut or is_cut_short(outlook.rule(office), amended_age, value)
+        cut = is_cut_short(outlook.of_signs(office), age, value)
+        return cut or is_cut_short(outlook.of_rules(office), amended_age, value)
     if word == "amends":
-        return is_reached(amended_age, 1) and outlook.rule(office) is not None
+        return is_reached(amended_age, 1) and outlook.of_rules(office) is not None
     if word == "heeds":
-        return is_reached(age, 1) and outlook.foreign(office)
+        return is_reached(age, 1) and outlook.sees_foreign(office)
     if word == "stands":
-        return hears_straight(house, office) and outlook.any_change(office)
+        return hears_straight(house, office) and outlook.sees_any(office)
     if word == "term":
-        return is_reached(age, value + 1) and outlook.sign(office) is not None
+        return is_reached(age, value + 1) and outlook.of_signs(office) is not None
     if word == "hears":
-        return outlook.any_change(office)
-    unbooked = is_unbooked(outlook.sign(office), age, value)
-    return unbooked or is_unbooked(outlook.rule(office), amended_age, value)
+        return outlook.sees_any(office)
+    unbooked = is_unbooked(outlook.of_signs(office), age, value)
+    return unbooked or is_unbooked(outlook.of_rules(office), amended_age, value)
 
 
 def harmful_marks(outlook, house):

@@ -51,14 +51,22 @@ def check_mark(word, value):
         raise BadMark(word, value)
 
 
-def weak_mark_of(part):
-    """The word and the value of a part of a practice's text; both are texts."""
-    word, _, text = part.partition("=")
-    check_word(word, text)
+def weak_value_of(word, text):
+    """The weak value with this text for the mark with this word, None if there is none."""
     for value in WEAK[word]:
         if str(value) == text:
-            return word, value
-    raise BadMark(word, text)
+            return value
+    return None
+
+
+def weak_mark_of(part):
+    """The word and the value that a part of a practice's text tells."""
+    word, _, text = part.partition("=")
+    check_word(word, text)
+    value = weak_value_of(word, text)
+    if value is None:
+        raise BadMark(word, text)
+    return word, value
 
 
 class Practice:

@@ -61,6 +61,10 @@ FUNCTIONS = {
     "judging": [
         "harm_of(house, mark)", "judge(house)", "assure(house)", "bare(house, mark)", "blamed(house, events)",
     ],
+    "mending": ["options(house)", "mended(house, chosen)", "mends(house)"],
+    "gains": ["greatest_gain(house, office)", "greatest_loss(house, office)"],
+    "writing": ["write_house(house)", "write_event(event)", "write_happening(happening)"],
+    "reading": ["read_house(lines)", "read_event(line)"],
 }
 
 PROMISE = ["__call__(self, old, new, due)", "__and__", "__le__", "__str__"]
@@ -133,15 +137,20 @@ CLASSES = {
     ("sessions", "Trying"): ["__init__(self, session)", "__enter__", "__exit__"],
     ("judging", "Harm"): [],
     ("judging", "Verdict"): ["__bool__", "__iter__"],
+    ("gains", "Gain"): ["late_word(self, times=0)"],
+    ("desk", "Desk"): ["__init__(self, house)", "say(self, line)", "listing(self, lines)"],
 }
 
 # Static and class methods: their arguments without the class.
 OTHERS = {
     ("practices", "Practice"): (classmethod, "from_text(text)"),
     ("ways", "Ways"): (staticmethod, "all_of(offices)"),
+    ("desk", "Desk"): (classmethod, "from_lines(lines)"),
 }
 
-GENERATORS = [("comparing", None, "lives"), ("purses", "Purse", "next_runs"), ("ways", None, "deliveries")]
+GENERATORS = [
+    ("comparing", None, "lives"), ("purses", "Purse", "next_runs"), ("ways", None, "deliveries"), ("desk", "Desk", "listing"),
+]
 
 
 class InterfaceTest(unittest.TestCase):
