@@ -1,6 +1,6 @@
 """The six usual kinds of rules."""
 
-from duehouse.checks import check_names, check_number, is_number
+from duehouse.checks import check_names, check_number
 from duehouse.errors import BadNumber
 from duehouse.rules import MOST_DUE, Rule, check_sign, is_due
 

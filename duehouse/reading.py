@@ -32,7 +32,6 @@ def taken_names(line):
     names = [line.new_name([])]
     while line.many_left() > 0 and len(names) < MOST_NAMES:
         names.append(line.new_name(names))
-    line.no_more()
     return names
 
 

@@ -81,6 +81,45 @@ def turns_of(house, office, events):
     return (turns, day, told) if form == "tell" and told_at == office and day < len(turns) else None
 
 
+def most_with(house, office, sign, back):
+    """The most that late words gain, sign 1, or lose, sign -1, whose changed day is just so many days back."""
+    course, practice = house.course, house.practice(office)
+    term, again = practice["term"], practice["again"]
+
+    def added(heeded, left, due, right):
+        since = back - left
+        bound = practice["pays"] if right > due else practice["asks"]
+        if heeded and (again is None or since < again) and (bound is None or left <= bound):
+            return 0
+        return sign * (due - right)
+
+    def step(seat, rule, name):
+        due, behind = course.step(seat, rule, name)
+        return (due if seat[0] == office else 0), behind
+
+    best = -10 ** 9
+    layer = {}
+    for seat in course.coming():
+        heeded = (term is None or back <= term) and (practice["heeds"] == "all" or seat[0] == office)
+        for rule, name in course.turns():
+            for other in course.signs:
+                if other != name:
+                    due, behind = step(seat, rule, name)
+                    right, true_behind = step(seat, rule, other)
+                    key = (heeded, behind, true_behind)
+                    layer[key] = max(layer.get(key, best), added(heeded, back, due, right))
+    for left in range(back - 1, 0, -1):
+        later = {}
+        for (heeded, seat, true_seat), worth in layer.items():
+            for rule, name in course.turns():
+                due, behind = step(seat, rule, name)
+                right, true_behind = step(true_seat, rule, name)
+                key = (heeded, behind, true_behind)
+                later[key] = max(later.get(key, best), worth + added(heeded, left, due, right))
+        layer = later
+    return max(layer.values(), default=0)
+
+
 class GainCase(Case):
     def check_word(self, house, office, events):
         """These events are a late word, and tell nothing that is so already."""
@@ -243,6 +282,29 @@ class SearchTest(GainCase):
                     many += told.most > 0
                     self.assertLessEqual(told.late_word().count(("day",)), 4 + house.late)
         self.assertGreater(many, 5)
+
+    def test_longer_words(self):
+        """Against the most of words with just so many days, each number by itself."""
+        rnd, seen = seeded(414), {"none": 0, "more": 0, "late": 0}
+        for _ in range(120):
+            course = made_course(rnd, 2, 2, 4, 2, dues=rnd.choice([(0, 0, 1, -1, 2), (0, 0, 0, 0, 1, -1)]))
+            if len(course.coming()) > 9:
+                continue
+            office = rnd.choice(course.offices)
+            weak = rnd.sample(["again", "heeds", "term", "pays", "asks"], rnd.choice([1, 1, 2, 3]))
+            practice = Practice(**{word: rnd.choice(WEAK[word]) for word in weak})
+            house = House(course, practices={office: practice}, late=rnd.choice([None, None, None, 1, 2, 3]))
+            for sign, told in [(1, greatest_gain(house, office)), (-1, greatest_loss(house, office))]:
+                self.check(house, office, told, sign)
+                backs = range(1, 25 if house.late is None else house.late + 1)
+                most = [most_with(house, office, sign, back) for back in backs]
+                if told.most is not None:
+                    self.assertEqual(told.most, max([0, *most]))
+                    seen["late" if house.late else "more"] += told.most > 0
+                else:
+                    self.assertGreater(max(most[12:]), max(most[:12]))
+                    seen["none"] += 1
+        self.assertGreater(min(seen.values()), 8, seen)
 
     def test_great_courses(self):
         rnd, done = seeded(413), 0

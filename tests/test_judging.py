@@ -1,6 +1,7 @@
 """Points 36 to 38: verdicts, harms whose histories are as short as can be, bare houses, and blame."""
 
 import unittest
+from itertools import product
 
 from duehouse.books import Book
 from duehouse.courses import Course
@@ -11,6 +12,7 @@ from duehouse.judging import Harm, Verdict, assure, bare, blamed, harm_of, judge
 from duehouse.kinds import Flat, Once, Waiting
 from duehouse.practices import FULL, Practice
 from duehouse.purses import Purse
+from duehouse.rules import Rule
 from duehouse.sessions import Session, ends_wrong, tried
 from tests.support import WEAK, Case, made_course, made_history, made_house, seeded
 
@@ -74,6 +76,56 @@ def wrong_history(house, office, tellers, days, most):
                 continue
             waiting.append((twin, [*events, event]))
     return None
+
+
+def all_changes(course, office, days):
+    """All changes of one day that the office sees: tuples (kind, whether it is in charge, day, day on which it sees it)."""
+    own, seats = {}, {}
+    for life in product(course.signs, repeat=days):
+        for code in product(course.rules, repeat=days):
+            own[life, code] = course.own(office, life, code)
+            seats[life, code] = course.seats(life, code)
+    found = set()
+    for life, code in own:
+        for day in range(days):
+            in_charge = seats[life, code][day][0] == office
+            others = [("sign", (*life[:day], sign, *life[day + 1:]), code) for sign in course.signs]
+            others += [("rule", life, (*code[:day], rule, *code[day + 1:])) for rule in course.rules]
+            for kind, other_life, other_code in others:
+                pairs = zip(own[life, code], own[other_life, other_code])
+                found.update((kind, in_charge, day, at) for at, (due, other) in enumerate(pairs) if due != other)
+    return found
+
+
+def days_for(house, mark, change):
+    """In how many days this change shows the harm of the mark, None if it never does."""
+    office, word, value = mark
+    kind, in_charge, day, at = change
+    ways = house.ways()
+    led = any(reader == office for _, reader in ways)
+    bound = house.late if kind == "sign" else house.reach
+    age = 60 if led or bound is None else bound
+    behind = at - day
+    if word in ("hears", "stands"):
+        return at + 1 if word == "hears" or led else None
+    if word == "again":
+        return at + 1 if behind >= value and age > value else None
+    if word in ("amends", "heeds", "term") and (word == "amends") != (kind == "rule"):
+        return None
+    if word == "amends":
+        return at + 1 if age > 0 else None
+    if word == "heeds":
+        return at + 1 if age > 0 and not in_charge else None
+    if word == "term":
+        return max(at + 1, day + value + 1) if age > value else None
+    return at + value + 1 if age >= behind + value + 1 else None
+
+
+def fewest_days(house, mark, changes, most):
+    """The fewest days for the mark, if they are no more than this, else None."""
+    days = [days_for(house, mark, change) for change in changes]
+    fewest = min([many for many in days if many is not None], default=None)
+    return fewest if fewest is not None and fewest <= most else None
 
 
 class HarmCase(Case):
@@ -213,6 +265,71 @@ class ShortestTest(HarmCase):
         passing = Course(Book([("r", Flat(AB, (1, 5)))]), ["x", "y"], {("x", "b"): "y"})
         house = House(passing, practices={"y": Practice(heeds="own")})
         self.assertEqual(days_of(harm_of(house, ("y", "heeds", "own")).events), 2)
+
+    def test_the_shorter_one_of_a_sign_and_a_rule(self):
+        # From s back to r the run of b is full: a rule change shows in two days, a sign change in three.
+        rule = Waiting(AB, "b", 2, 7)
+        book = Book([("r", rule), ("s", rule)])
+        book["r", "s"], book["s", "r"] = (0, 1, 2), (2, 2, 2)
+        course = Course(book, ["x", "y"])
+        for late, reach, again, pays in [
+            (None, None, 2, 2), (None, 2, 2, 2), (None, 1, 3, 2), (None, 0, 3, 2), (2, 2, 2, 2), (1, 2, 2, 2), (2, 1, 3, 2),
+            (1, 1, None, 2), (0, 1, None, 2), (0, 2, 2, 2), (0, None, 2, 2), (1, 0, None, 2), (0, 0, None, None),
+        ]:
+            house = House(course, practices={"x": Practice(again=1, pays=0, asks=0)}, ways=[], late=late, reach=reach)
+            for mark, days in [
+                (("x", "again", 1), again), (("x", "pays", 0), pays), (("x", "asks", 0), pays), (("x", "hears", "y"), 2),
+            ]:
+                harm = harm_of(house, mark)
+                self.assertEqual(None if harm is None else days_of(harm.events), days, (late, reach, mark))
+                if harm is not None:
+                    self.check_harm(house, harm)
+        house = House(course, practices={"x": Practice(stands="come")})
+        self.assertEqual(days_of(harm_of(house, ("x", "stands", "come")).events), 2)
+
+    def test_the_day_that_the_term_lets_go_first(self):
+        # The sign of day 0 shows on day 2, that of day 1 at once: the longer the term, the more the first one is worth.
+        rows = (((0, 1), (0, 2)), ((0, 1), (5, 1)), ((0, 3), (5, 3)), ((9, 3), (5, 3)))
+        course = Course(Book([("r", Rule(AB, rows))]), ["x"])
+        for term, days in [(0, 2), (1, 3), (2, 3), (3, 4)]:
+            house = House(course, practices={"x": Practice(term=term)})
+            harm = harm_of(house, ("x", "term", term))
+            self.assertEqual(days_of(harm.events), days)
+            self.check_harm(house, harm)
+
+    def test_fewest_days_by_all_changes(self):
+        rnd, compared = seeded(324), {}
+        for dues in [(0, 0, 1, -2), (0, 0, 0, 0, 1), (0, 0, 0, 0, 0, 0, 1)]:
+            for _ in range(60):
+                course = made_course(rnd, 2, 2, 4, 3, dues=dues)
+                changes = {office: all_changes(course, office, 4) for office in course.offices}
+                for _ in range(3):
+                    house = made_house(rnd, course)
+                    for mark in marks_of(house):
+                        days = fewest_days(house, mark, changes[mark[0]], 4)
+                        harm = harm_of(house, mark)
+                        if days is not None:
+                            self.assertEqual(days_of(harm.events), days, mark)
+                            compared[mark[1]] = compared.get(mark[1], 0) + 1
+                        elif harm is not None:
+                            self.assertGreater(days_of(harm.events), 4)
+        self.assertEqual(len(compared), 8)
+
+    def test_the_letter_that_is_read(self):
+        """Where the change comes in a letter, it is this letter that is read, and nothing ahead of it."""
+        rnd, read = seeded(325), 0
+        for _ in range(80):
+            house = made_house(rnd, made_course(rnd, dues=(0, 0, 1, -2)))
+            for harm in judge(house):
+                session, office = Session(bare(house, harm.mark)), harm.mark[0]
+                for event in harm.events:
+                    if event[0] == "read":
+                        read += 1
+                        numbers = [entry[0] for entry in session.file(office).entries()]
+                        lacking = [number + 1 for number in range(len(session.truth())) if number + 1 not in numbers]
+                        self.assertEqual(session.letters()[event[1]][1:], (office, *lacking))
+                    session.do(event)
+        self.assertGreater(read, 40)
 
     def small_house(self, rnd, word, value):
         course = made_course(rnd, 2, 2, 2, 2, dues=(0, 0, 1, -2))

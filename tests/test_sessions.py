@@ -564,6 +564,16 @@ class CopyTest(Case):
             self.assertEqual(told_by(other), before)
             self.refused(Closed, {}, twin.copy().do, ("day",))
 
+    def test_what_was_learnt_goes_along(self):
+        session = session_with(flat_house(("x", "y", "z")), ("tell", "x", 0, "b"), ("read", 0))
+        self.assertEqual(session.letters(), [("x", "z", 1), ("y", "x", 1), ("y", "z", 1)])
+        twin = session.copy()
+        self.assertEqual(twin.do(("read", 1)), [])
+        with Trying(session) as trial:
+            self.assertEqual(trial.do(("read", 0)), [("letter", "z", "x", 1), ("letter", "z", "y", 1)])
+        self.assertEqual(session.do(("read", 1)), [])
+        self.assertEqual(session.do(("read", 1)), [("letter", "z", "x", 1), ("letter", "z", "y", 1)])
+
     def test_appeals_go_along(self):
         session = session_with(flat_house(("x",), practices={"x": Practice(term=0)}), ("appeal", "x", 1))
         twin = session.copy()
