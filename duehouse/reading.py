@@ -18,7 +18,7 @@ ONCE = ("signs", "offices", "late", "reach")
 NAMED = ("office", "sign", "rule")
 
 
-def is_due(part, last):
+def may_follow(part, last):
     """Whether a line of this part may follow on one of the last part, None for no line."""
     if part not in PARTS:
         return False
@@ -76,7 +76,7 @@ class HouseText:
     def take(self, line):
         """Take a line."""
         part = line.first_word()
-        if not is_due(part, self.last):
+        if not may_follow(part, self.last):
             line.refuse_first()
         if part == "signs":
             self._signs = tuple(taken_names(line))
@@ -156,7 +156,7 @@ class HouseText:
         """Whether no line lacks."""
         return self.last is not None and PARTS.index(self.last) >= PARTS.index(NEEDED[-1])
 
-    def house(self):
+    def told_house(self):
         """The house that is told."""
         book = Book([(name, self._rules[name]) for name in self._rules])
         for old, new in list(self._tables):
@@ -182,7 +182,7 @@ def read_house(lines):
             told.take(Line(number, text))
     if not told.is_whole():
         raise BadLine(len(lines) + 1, 1)
-    return told.house()
+    return told.told_house()
 
 
 def read_event(line):

@@ -411,6 +411,26 @@ def generator_faults(file, files, own):
                     yield "L23", node.lineno, f"{called} is not iterated at once"
 
 
+def stored_attributes(files):
+    """The names of all attributes that the package assigns."""
+    nodes = [node for file in files for node in ast.walk(file.tree) if isinstance(node, ast.Attribute)]
+    return {node.attr for node in nodes if isinstance(node.ctx, ast.Store)}
+
+
+def shared_name_faults(file, files, own):
+    """No name is a method here and an attribute there: L18 lets some such names, none of which is needed.
+
+    A property may be assigned: its own setter stands below it.
+    """
+    stored = stored_attributes(files)
+    for node in ast.walk(file.tree):
+        if isinstance(node, ast.ClassDef):
+            setters = {part.name for part in node.body if isinstance(part, ast.FunctionDef) and is_setter(part)}
+            for part in node.body:
+                if isinstance(part, ast.FunctionDef) and part.name in stored - setters:
+                    yield "L18", part.lineno, f"{part.name} is a method here and an attribute elsewhere"
+
+
 def class_faults(file, files, own):
     """Methods and attributes of each class, with those of its bases and subclasses."""
     classes = {name: node for other in files for name, node in other.defined.items() if isinstance(node, ast.ClassDef)}
@@ -444,7 +464,7 @@ def class_faults(file, files, own):
 
 CHECKS = (
     text_faults, import_faults, top_faults, name_faults, node_faults, range_faults, decorator_faults, exit_faults,
-    generator_faults, class_faults,
+    generator_faults, class_faults, shared_name_faults,
 )
 
 if __name__ == "__main__":

@@ -46,6 +46,10 @@ PLANTED = [
     ("L17", "# an enum"),
     ("L17", "X = 'type'"),
     ("L18", "class One:\n    def __init__(self):\n        self.x = 1\n\n    def x(self):\n        return 1"),
+    (
+        "L18",
+        "class One:\n    def __init__(self):\n        self.x = 1\n\n\nclass Two:\n    def x(self):\n        return 1",
+    ),
     ("L19", "def one(error):\n    raise error"),
     ("L20", "def one(x, y):\n    return x is y"),
     ("L21", "def one(x: int):\n    return x"),
