@@ -331,6 +331,30 @@ class ShortestTest(HarmCase):
                     session.do(event)
         self.assertGreater(read, 40)
 
+    def test_the_letter_among_several_offices(self):
+        """Whichever ways there are among three offices, the first letter that is read brings the change."""
+        rule = Waiting(AB, "b", 1, 7)
+        book = Book([("r", rule), ("s", Flat(AB, (0, 1)))])
+        course = Course(book, ["x", "y", "z"], {("x", "b"): "y", ("y", "b"): "z", ("z", "b"): "x"})
+        pairs = [(writer, reader) for writer in "xyz" for reader in "xyz" if writer != reader]
+        marks = [("term", 1), ("stands", "come"), ("amends", "ahead"), ("again", 1), ("pays", 0), ("asks", 0), ("heeds", "own")]
+        for chosen in product([False, True], repeat=6):
+            ways = [pair for pair, there in zip(pairs, chosen) if there]
+            for office in {reader for _, reader in ways}:
+                for word, value in marks:
+                    house = House(course, practices={office: Practice(**{word: value})}, ways=ways, late=0, reach=0)
+                    harm = harm_of(house, (office, word, value))
+                    self.check_harm(house, harm)
+                    session = Session(house)
+                    reads = [event for event in harm.events if event[0] == "read"]
+                    self.assertEqual(len(reads), 1)
+                    for event in harm.events[: harm.events.index(reads[0])]:
+                        session.do(event)
+                    before = session.file(office).entries()
+                    session.do(reads[0])
+                    told = [entry for entry in session.file(office).entries() if entry not in before]
+                    self.assertEqual(told, [entry for entry in session.truth() if entry not in before])
+
     def small_house(self, rnd, word, value):
         course = made_course(rnd, 2, 2, 2, 2, dues=(0, 0, 1, -2))
         office = rnd.choice(course.offices)

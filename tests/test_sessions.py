@@ -397,6 +397,18 @@ class RefusedTest(Case):
         self.assertEqual((session.days, session.purse("x").due), (60, 60))
         self.refused_all(session, [(("day",), TooMany, {"limit": 60}), (("day", 1), BadEvent, {"event": ("day", 1)})])
         self.assertEqual(session.do(("tell", "x", 59, "b")), [("book", "x", 59, 4), ("letter", "x", "y", 1)])
+        # Nothing but a day is one too many.
+        for event, happened in [
+            (("amend", "y", 59, "s"), [("letter", "y", "x", 2)]), (("read", 0), [("letter", "y", "x", 1)]),
+            (("void", "y", 1), [("letter", "y", "x", 3)]), (("appeal", "x", 0), []), (("hold", "x"), []), (("free", "x"), []),
+            (("run", "x"), [("pay", "x", 64)]),
+        ]:
+            self.assertEqual(session.do(event), happened)
+        self.assertEqual(session.do(("close",))[-1], ("pay", "x", 95))
+
+    def test_too_many_days_where_an_office_is_called_day(self):
+        session = session_with(flat_house(("day",)), *[("day",)] * 60)
+        self.assertEqual(session.do(("run", "day")), [("pay", "day", 60)])
 
     def test_behind_close(self):
         session = session_with(flat_house(late=0), ("tell", "x", 0, "b"), ("day",), ("day",), ("close",))
