@@ -180,6 +180,12 @@ class ExamplesTest(GainCase):
         self.assertEqual(self.both(house_of([Once(AB, "b", 7)], None, term=0)), (7, 7))
         self.assertEqual(self.both(house_of([Waiting(AB, "b", 2, 7)], None, term=0)), (21, 21))
 
+    def test_the_last_day_alone(self):
+        # Behind a b each next day gives 4 more: what a change of the last day gains, it loses in part on a next one.
+        rule = Rule(AB, (((5, 0), (0, 1)), ((9, 0), (4, 1))))
+        for late in [None, 1, 2, 3]:
+            self.assertEqual(self.both(house_of([rule], late, term=0)), (5, 5))
+
     def test_no_greatest_one(self):
         # Behind the first b an a gives 2 and a b 3: a change of it shows up to the next b.
         rule = Rule(AB, (((0, 0), (0, 1)), ((2, 1), (3, 1))))
